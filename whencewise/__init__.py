@@ -1,0 +1,1 @@
+"""Whencewise: tables whose rows bear notes, and what an answer hangs on."""
