@@ -5,6 +5,7 @@ import unittest
 from whencewise.heaps import Heaps
 from whencewise.kinds import Costs, Counts, Pair, Sure, Truth, Voices, Wheel
 from whencewise.least import Least
+from whencewise.reasons import Reasons
 
 SIXTY = 10 ** 59 + 7
 LONGEST = 10 ** 60 - 1
@@ -60,6 +61,16 @@ def plain_notes():
     ]
 
 
+def reasons():
+    """Some reasons, with bars and bars within bars among them."""
+    a, b = ((("a",), (), 1),), ((("b",), (), 1),)
+    bar = (((), (a,), 1),)
+    return [
+        (), (((), (), 1),), (((), (), SIXTY),), a, b, ((("a", "a"), (), 2), (("b",), (), 1)), bar,
+        (((), (a, b), 1), (("a",), (), 3)), (((), (bar,), 1), ((), (a,), 2)), ((("c",), (bar, a), 1),),
+    ]
+
+
 def made_notes():
     """The same of kinds that are made of other ones, pairs of heaps and heaps of pairs among them."""
     two = Heaps(Wheel(4))
@@ -86,6 +97,9 @@ def made_notes():
         ("pairs of heaps", Pair(Heaps(Counts()), Heaps(Truth())), [
             ((), ()), (((0, 1),), ((0, True),)), (((1, 2),), ()), (((-1, 1), (2, 5)), ((1, True), (3, True))),
         ]),
+        ("reasons", Reasons(), reasons()),
+        ("heaps of reasons", Heaps(Reasons()), [()] + [((-1, note), (2, reasons()[3])) for note in reasons()[1:6]]),
+        ("pairs of reasons", Pair(Reasons(), Wheel(2)), [(note, at % 2) for at, note in enumerate(reasons()[2:8])]),
         ("heaps of pairs", Heaps(Pair(Wheel(6), Costs())), [
             (), ((0, (1, 0)),), ((0, (0, 2)),), ((1, (3, None)),), ((-1, (2, 1)), (4, (5, -3))),
         ]),

@@ -9,6 +9,7 @@ from samples import LONGEST, NO_NOTES, SIXTY, Exact, all_notes, deep, made_notes
 from whencewise.heaps import Heaps
 from whencewise.kinds import Costs, Counts, Kind, Pair, Single, Sure, Truth, Voices, Wheel
 from whencewise.least import Least
+from whencewise.reasons import Reasons
 
 
 class Rules(Exact):
@@ -182,20 +183,20 @@ class Holds(Exact):
 class Singles(Exact):
     def test_which_stands_under_which(self):
         self.assertTrue(issubclass(Single, Kind))
-        for some in [Counts, Wheel, Pair, Heaps]:
+        for some in [Counts, Wheel, Pair, Heaps, Reasons]:
             self.assertTrue(issubclass(some, Kind))
             self.assertFalse(issubclass(some, Single))
         for some in [Truth, Costs, Sure, Voices, Least]:
             self.assertTrue(issubclass(some, Single))
             self.assertTrue(issubclass(some, Kind))
-        every = [Counts, Wheel, Pair, Heaps, Truth, Costs, Sure, Voices, Least]
+        every = [Counts, Wheel, Pair, Heaps, Reasons, Truth, Costs, Sure, Voices, Least]
         for one, other in itertools.permutations(every, 2):
             self.assertFalse(issubclass(one, other))
 
     def test_objects(self):
         for kind in [Truth(), Costs(), Sure(), Voices(), Least()]:
             self.assertTrue(isinstance(kind, Single) and isinstance(kind, Kind))
-        for kind in [Counts(), Wheel(3), Pair(Truth(), Costs()), Heaps(Truth())]:
+        for kind in [Counts(), Wheel(3), Pair(Truth(), Costs()), Heaps(Truth()), Reasons()]:
             self.assertTrue(isinstance(kind, Kind))
             self.assertFalse(isinstance(kind, Single))
 

@@ -138,10 +138,76 @@ def top_faults(tree):
     return faults
 
 
+def shadow_faults(tree):
+    """Parameters and locals that are called like a class or an import of their file."""
+    drawn = [alias.asname or alias.name for node in tree.body if isinstance(node, ast.ImportFrom) for alias in node.names]
+    taken = drawn + [node.name for node in tree.body if isinstance(node, ast.ClassDef)]
+    faults = []
+    for node in ast.walk(tree):
+        given = isinstance(node, ast.arg) or (isinstance(node, ast.Name) and isinstance(node.ctx, ast.Store))
+        faults += [f"L15 {node.lineno}: {name} is a class or an import" for name in bound_names(node) if given and name in taken]
+    return faults
+
+
+def is_set(node):
+    made = isinstance(node, ast.Call) and isinstance(node.func, ast.Name) and node.func.id in ("set", "frozenset")
+    return made or isinstance(node, (ast.Set, ast.SetComp))
+
+
+def asks_a_set(node, above):
+    """Whether a set may stand, or be named, straight within this node."""
+    called = isinstance(above, ast.Call) and node in above.args and isinstance(above.func, ast.Name)
+    return (called and above.func.id in ("sorted", "len")) or isinstance(above, ast.Compare)
+
+
+def set_faults(tree):
+    """Sets that stand elsewhere than where they are asked on the spot or kept by a local."""
+    above = {inner: node for node in ast.walk(tree) for inner in ast.iter_child_nodes(node)}
+    faults = []
+    for node in ast.walk(tree):
+        if not is_set(node):
+            continue
+        outer = node
+        while isinstance(above[outer], ast.BinOp):
+            outer = above[outer]
+        place = above[outer]
+        kept = outer is node and isinstance(place, ast.Assign) and isinstance(place.targets[0], ast.Name)
+        if not kept and not asks_a_set(outer, place):
+            faults.append(f"L24 {node.lineno}: a set is neither asked on the spot nor kept by a local")
+    return faults + kept_set_faults(tree, above)
+
+
+def kept_set_faults(tree, above):
+    faults = []
+    for define in [node for node in ast.walk(tree) if isinstance(node, ast.FunctionDef)]:
+        inner = list(ast.walk(define))
+        kept = [node.targets[0].id for node in inner if isinstance(node, ast.Assign) and is_set(node.value)]
+        for node in inner:
+            if isinstance(node, ast.Name) and isinstance(node.ctx, ast.Load) and node.id in kept:
+                place = above[node]
+                changed = isinstance(place, ast.Attribute) and place.attr in ("add", "discard")
+                truth = isinstance(place, (ast.If, ast.While, ast.Assert, ast.UnaryOp))
+                if not changed and not truth and not asks_a_set(node, place):
+                    faults.append(f"L24 {node.lineno}: the set {node.id} is handed on or walked")
+    return faults
+
+
+def once_walked_faults(tree):
+    """What is to be walked on the spot, and is given to a name or given back."""
+    faults = []
+    for node in ast.walk(tree):
+        if isinstance(node, (ast.Assign, ast.Return)) and isinstance(node.value, ast.Call):
+            deed = node.value.func
+            name = deed.id if isinstance(deed, ast.Name) else getattr(deed, "attr", "")
+            if name in ("zip", "enumerate", "reversed", "range", "items", "keys", "values"):
+                faults.append(f"L23 {node.lineno}: {name} is kept")
+    return faults
+
+
 def faults_of(text):
     """The findings of one file's text."""
     tree = ast.parse(text)
-    faults = row_faults(text) + top_faults(tree)
+    faults = row_faults(text) + top_faults(tree) + shadow_faults(tree) + set_faults(tree) + once_walked_faults(tree)
     for node in ast.walk(tree):
         if isinstance(node, OUT):
             faults.append(f"L2, L6, L7 {getattr(node, 'lineno', 0)}: {node.__class__.__name__}")
@@ -160,6 +226,17 @@ def drawn_from(path):
     tree = ast.parse(path.read_text(encoding="utf-8"))
     modules = [node.module for node in tree.body if isinstance(node, ast.ImportFrom)]
     return [module.split(".", 1)[1] for module in modules if module.startswith("whencewise.")]
+
+
+def defined_in(path):
+    """The names that a file's top defines itself."""
+    names = []
+    for node in ast.parse(path.read_text(encoding="utf-8")).body:
+        if isinstance(node, (ast.FunctionDef, ast.ClassDef)):
+            names.append(node.name)
+        if isinstance(node, ast.Assign):
+            names += [target.id for target in node.targets if isinstance(target, ast.Name)]
+    return names
 
 
 class Package(unittest.TestCase):
@@ -191,6 +268,31 @@ class Package(unittest.TestCase):
                 del left[stem]
 
 
+    def test_each_name_is_drawn_from_the_file_that_defines_it(self):
+        for path in self.files():
+            for node in ast.parse(path.read_text(encoding="utf-8")).body:
+                if isinstance(node, ast.ImportFrom):
+                    source = PACKAGE / (node.module.split(".", 1)[1] + ".py")
+                    for alias in node.names:
+                        self.assertIn(alias.name, defined_in(source), f"L16 {path.name} {node.lineno}")
+
+    def test_each_name_is_bound_once(self):
+        for path in self.files():
+            names = defined_in(path)
+            self.assertEqual(len(set(names)), len(names), f"L15 {path.name}")
+
+    def test_no_name_is_a_method_and_a_value(self):
+        methods, values = set(), set()
+        for path in self.files():
+            for node in ast.walk(ast.parse(path.read_text(encoding="utf-8"))):
+                if isinstance(node, ast.ClassDef):
+                    methods |= {inner.name for inner in node.body if isinstance(inner, ast.FunctionDef)}
+                if isinstance(node, ast.Attribute) and isinstance(node.ctx, ast.Store):
+                    values.add(node.attr)
+        self.assertEqual(methods & values, set(), "L18")
+        self.assertEqual((methods | values) & PYTHONS_METHODS - set(DUNDERS), set(), "L26")
+
+
 class Findings(unittest.TestCase):
     """The look-out itself finds what it is there for."""
 
@@ -211,6 +313,13 @@ class Findings(unittest.TestCase):
             ("L20", "def one(x, y):\n    return x is y\n"), ("L25", "def one(x):\n    return x.format(1)\n"),
             ("L25", "def one(x):\n    return x.intersection(x)\n"), ("L27", "SIGN = '%'\n"),
             ("L6", "def one(x):\n    try:\n        return x[0]\n    except:\n        return 0\n"),
+            ("L15", "from whencewise.names import is_name\n\n\ndef one(is_name):\n    return 1\n"),
+            ("L15", "class One:\n    pass\n\n\ndef two():\n    One = 1\n    return One\n"),
+            ("L23", "def one(xs):\n    return zip(xs, xs)\n"), ("L23", "def one(d):\n    xs = d.items()\n    return list(xs)\n"),
+            ("L24", "def one(xs):\n    return set(xs)\n"), ("L24", "def one(xs):\n    return tuple(set(xs))\n"),
+            ("L24", "def one(xs):\n    seen = set(xs)\n    return [x for x in seen]\n"),
+            ("L24", "def one(xs):\n    return [x for x in {y for y in xs}]\n"),
+            ("L24", "def one(xs):\n    seen = set()\n    seen.update(xs)\n    return sorted(seen)\n"),
             ("L6", "def one(x):\n    while x:\n        x -= 1\n    else:\n        x = 2\n    return x\n"),
         ]:
             with self.subTest(text=text[:60]):
