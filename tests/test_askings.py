@@ -4,25 +4,17 @@ import copy
 import itertools
 import unittest
 
-from samples import Exact
+from samples import NONE, N, R, REFUSALS, S, SHAPES, T, TRUE, U, W, Exact, of
 
 from whencewise.askings import columns_of, plain
 from whencewise.errors import NoColumn, NoTable, Twice, Unlike
 
-SHAPES = {"r": ("a", "b"), "s": ("b", "c"), "t": ("c", "d"), "u": ("b", "a"), "n": (), "w": ("a", "b", "c")}
-R, S, T, U, N, W = [("table", name) for name in "rstunw"]
-NONE = ("table", "none")
-TRUE = ("same", ("just", 1), ("just", 1))
 # Each is refused with one error.
 NO_TABLE = NONE
 NO_COLUMN = ("keep", R, ("z",))
 TWICE = ("keep", R, ("a", "a"))
 UNLIKE = ("pour", R, S)
 BAD = [(NO_TABLE, NoTable), (NO_COLUMN, NoColumn), (TWICE, Twice), (UNLIKE, Unlike)]
-
-
-def of(column):
-    return ("of", column)
 
 
 class Columns(Exact):
@@ -106,6 +98,10 @@ class Refused(Exact):
     def no(self, error, asking):
         with self.subTest(asking=asking):
             self.refuses(error, columns_of, asking, SHAPES)
+
+    def test_each_refusal(self):
+        for error, asking in REFUSALS:
+            self.no(error, asking)
 
     def test_no_table(self):
         for asking in [

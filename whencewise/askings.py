@@ -50,10 +50,15 @@ def columns_of_keep(asking, within):
     return kept(asking[2], within[0])
 
 
+def totalled(column, columns, within):
+    """The columns of a total, by its COLUMN, its columns and those that are there."""
+    refuse_missing(column, within)
+    return kept(columns, within)
+
+
 def columns_of_total(asking, within):
     """The columns of a total, by those of the asking within."""
-    refuse_missing(asking[2], within[0])
-    return kept(asking[3], within[0])
+    return totalled(asking[2], asking[3], within[0])
 
 
 def columns_of_call(asking, within):

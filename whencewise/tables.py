@@ -20,19 +20,20 @@ def rank_of_row(row):
 def table(kind, columns, pairs):
     """The table of some columns and of pairs (row, note) of a kind, in any order."""
     refuse_columns(columns)
-    groups = {}
     for row, note in pairs:
         if len(row) != len(columns):
             raise Misfit("a row has as many values as there are columns")
         if not kind.holds(note):
             raise NoNote("what a row bears is no note of the kind")
+    return (tuple(columns), gathered(kind, pairs))
+
+
+def gathered(kind, pairs):
+    """The pairs of a table, of pairs (row, note) in any order, the notes of alike rows poured together."""
+    groups = {}
+    for row, note in pairs:
         groups.setdefault(row, []).append(note)
-    return (tuple(columns), sorted_pairs(poured_groups(kind, groups)))
-
-
-def sorted_pairs(pairs):
-    """The pairs (row, note) of a table, sorted by the rank of their rows."""
-    return tuple(sorted(pairs, key=lambda pair: rank_of_row(pair[0])))
+    return tuple(sorted(poured_groups(kind, groups), key=lambda pair: rank_of_row(pair[0])))
 
 
 def refuse_columns(columns):
@@ -61,3 +62,13 @@ def note_of(some, kind, row):
         if other == row:
             return note
     return kind.nought()
+
+
+def places_of(wanted, columns):
+    """At which places of columns the wanted ones stand, in their order."""
+    return [columns.index(column) for column in wanted]
+
+
+def values_at(places, row):
+    """The values at some places of a row, as a row."""
+    return tuple([row[at] for at in places])
