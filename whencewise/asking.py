@@ -18,7 +18,11 @@ def answered(kind, asking, store):
     """The answer to an asking that isn't refused."""
     if asking[0] == "table":
         return store[asking[1]]
-    within = [answered(kind, one, store) for one in askings_within(asking)]
+    return answered_by(kind, asking, [answered(kind, one, store) for one in askings_within(asking)])
+
+
+def answered_by(kind, asking, within):
+    """The answer to an asking that is no table, by the answers to those straight within it."""
     deed = DEEDS[asking[0]]
     return deed(kind, asking, within)
 

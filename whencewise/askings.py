@@ -14,6 +14,11 @@ def askings_within(asking):
     return (asking[1],)
 
 
+def rebuilt(asking, within):
+    """The asking with the first ones straight within it, or all, replaced by those of a tuple."""
+    return asking[:1] + within + asking[1 + len(within):]
+
+
 def plain(asking):
     """Whether there is no leave in an asking."""
     if asking[0] == "leave":
