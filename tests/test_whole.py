@@ -122,6 +122,84 @@ class BySeeds(Exact):
                 self.same(note_of(why, Reasons(), row), reason)
 
 
+    def test_steps_keep_ways_and_cuts(self):
+        for seed in range(60):
+            chance = Chance(seed)
+            hoard, asking = chance.hoard(), chance.asking(3)
+            asking = ("pick", asking, chance.test(columns_of(asking, chance.shapes), 2))
+            rows = [row for row, note in ask(Reasons(), asking, named(hoard))[1]] + [(), (7, 7)]
+            for one in steps(asking, shapes_of(hoard)):
+                for row in rows:
+                    self.same(ways(one, hoard, row), ways(asking, hoard, row))
+                    if plain(asking):
+                        self.same(cuts_of(one, hoard, row), cuts_of(asking, hoard, row))
+
+
+class Bounds(Exact):
+    """Askings as deep and wide as they may be, and those that steps makes of them."""
+
+    def all_of(self, asking, hoard, row):
+        """The asking, read from its text, and what it is settled to: the same all along."""
+        shapes = shapes_of(hoard)
+        asking = read(show(asking))
+        last = steps(asking, shapes)[-1]
+        self.same(steps(last, shapes), [last])
+        why = ask(Reasons(), asking, named(hoard))
+        self.same(ask(Reasons(), last, named(hoard)), why)
+        self.same(columns_of(last, shapes), columns_of(asking, shapes))
+        self.same(plain(last), plain(asking))
+        self.same(ways(last, hoard, row), ways(asking, hoard, row))
+        self.same(once(last)[0], last[0])
+        self.assertEqual(show(last).count("(same"), show(last).count("(pick"))
+        if plain(asking):
+            self.same(compared(asking, last, hoard), ("every", ()))
+            self.same(cuts_of(last, hoard, row), cuts_of(asking, hoard, row))
+        return why, last
+
+    def test_forty_sames(self):
+        tests = [f"(same .a {at % 2})" for at in range(0, 80, 2)]
+        while len(tests) > 1:
+            tests = [f"(both {' '.join(tests[at:at + 2])})" if tests[at + 1:] else tests[at] for at in range(0, len(tests), 2)]
+        text = f"(pick {'(keep ' * 29}r{' a b)' * 29} {tests[0]})"
+        hoard = {"r": (("a", "b"), (((0, 1), "e"), ((1, 1), "f"), ((0, 2), "e")))}
+        why, last = self.all_of(read(text), hoard, (0, 2))
+        self.same(told(Reasons(), why), "0 1 : e; 0 2 : e")
+        self.assertEqual(show(last), "(keep " * 29 + "(pick " * 40 + "r" + " (same .a 0))" * 40 + " a b)" * 29)
+
+    def test_a_chain_of_both(self):
+        text = "(pick r " + "(both (not (not (same .b 1))) " * 25 + "(same .a 0)" + ")" * 25 + ")"
+        hoard = {"r": (("a", "b"), (((0, 1), "e"), ((1, 1), "f"), ((0, 2), "e")))}
+        why, last = self.all_of(read(text), hoard, (0, 1))
+        self.same(told(Reasons(), why), "0 1 : e")
+        self.assertEqual(show(last).count("(pick"), 26)
+
+    def test_sixteen_tables(self):
+        for word, many in [("join", 1), ("pour", 16)]:
+            asking = f"({word} " * 15 + "r" + " r)" * 15
+            text = f"(pick (keep (call {asking} x y) x y) (not (either (not (same .x 0)) (not (same .y .y)))))"
+            hoard = {"r": (("a", "b"), (((0, 1), "e"), ((1, 1), "f")))}
+            shapes = shapes_of(hoard)
+            told_by = steps(read(text), shapes)
+            for one in [told_by[0], told_by[len(told_by) // 2], told_by[-1]]:
+                why = ask(Reasons(), one, named(hoard))
+                self.same(why, (("x", "y"), (((0, 1), ((("e",) * (16 // many), (), many),)),)))
+                self.assertEqual(len(ways(one, hoard, (0, 1))), many)
+                self.same(cuts_of(one, hoard, (0, 1)), (("e",),))
+                self.same(compared(one, told_by[0], hoard), ("every", ()))
+
+    def test_leaves_thirty_deep(self):
+        text = "r"
+        for _ in range(15):
+            text = f"(leave r (keep {text} b a))"
+        hoard = {"r": (("a", "b"), (((0, 1), "e"), ((1, 1), "f")))}
+        self.assertEqual(text.count("("), 30)
+        why = ask(Reasons(), read(text), named(hoard))
+        self.assertEqual(told(Reasons(), why).count("!("), 30)
+        self.same(answer(Counts(), text, stocked(Counts(), hoard, {"e": 1, "f": 2})), "none")
+        self.same(left_of(why, ["f"]), ask(Reasons(), read(text), named(without(hoard, ["f"]))))
+        self.same(ways(read(text), hoard, (0, 1)), [("fact", 0, "e")])
+
+
 INTERFACE = {
     "errors": {},
     "names": {"is_whole": ["thing"], "is_name": ["thing"]},
